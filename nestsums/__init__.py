@@ -1,0 +1,1 @@
+"""Nestsums: statistics of rows by sums within sums."""
