@@ -1,4 +1,4 @@
-"""The rules on files and sizes that a machine can look up: ../shared/LANGUAGE.md L1, L5, L7, L10, L14."""
+"""The rules on files and sizes that a machine can look up: ../shared/LANGUAGE.md L1, L2, L5, L7, L10, L14."""
 
 import ast
 import pathlib
@@ -16,6 +16,7 @@ BARRED = (
     ast.GeneratorExp,
 )
 METHODS = {"__init__", "__eq__", "__len__"}
+LIBRARY = {"heapq", "math", "itertools", "collections"}
 
 
 class Layout(unittest.TestCase):
@@ -40,12 +41,13 @@ class Layout(unittest.TestCase):
                 if isinstance(node, FUNCTIONS):
                     self.assertLessEqual(node.end_lineno - node.lineno + 1, 40, (path, node.lineno))
 
-    def test_imports_name_files_of_the_package(self):
+    def test_imports_name_files_of_the_package_or_the_library_of_l2(self):
         for path in FILES:
             for node in ast.walk(ast.parse(path.read_text())):
                 if isinstance(node, ast.ImportFrom):
                     self.assertEqual(node.level, 0, (path, node.lineno))
-                    self.assertTrue(node.module.startswith("nestsums."), (path, node.lineno))
+                    known = node.module.startswith("nestsums.") or node.module in LIBRARY
+                    self.assertTrue(known, (path, node.lineno))
 
     def test_barred_parts_do_not_occur(self):
         for path in FILES:
