@@ -14,8 +14,8 @@ def power(number, letter):
     return result
 
 
-def word_sum(word, row):
-    """Return the sum of a word on a row."""
+def beginning_sums(word, row):
+    """Return the sums on a row of all beginnings of a word, from the empty one to the whole word."""
     # sums[place] is the sum of the word's first letters, as many as place,
     # on the numbers that were gone through so far.
     sums = [1] + [0] * len(word)
@@ -24,4 +24,9 @@ def word_sum(word, row):
         # be chosen for two letters.
         for place in range(len(word), 0, -1):
             sums[place] += sums[place - 1] * power(number, word[place - 1])
-    return sums[-1]
+    return sums
+
+
+def word_sum(word, row):
+    """Return the sum of a word on a row."""
+    return beginning_sums(word, row)[-1]

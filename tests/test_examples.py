@@ -11,6 +11,28 @@ FORMULAS_AND_FORMS = """
 [11, 5, 6, 1, [(3, []), (2, [1])], False, 2, -1, [[0, 2], [1]]]
 """
 
+PARTING_AND_IDENTITIES = """
+>>> from nestsums.formulas import Formula, word_formula
+>>> from nestsums.identities import identity_parts, side_formula
+>>> from nestsums.parting import on_kind, parting, parting_among
+>>> first, second = word_formula([1, 2]), word_formula([2, 1])
+>>> [parting(first, second), parting(word_formula([1, 1]), word_formula([2])), parting(word_formula([2]), word_formula([1])), parting_among(word_formula([2]), word_formula([1]), "bits"), parting_among(word_formula([2]), word_formula([1]), "signs"), on_kind(second, "signs").terms, parting(Formula([(1, [])]), Formula([]))]
+[([1, 2], 2), ([1], -1), ([2], 2), None, ([-1], 2), [(1, [0, 1])], ([], 1)]
+>>> [side_formula([(1, [[1], [1]])]).terms, identity_parts([(1, [[0], [2]]), (-1, [[1], [1]])], [(1, [[2, 0]]), (-2, [[1, 1]]), (1, [[0, 2]])]), identity_parts([(1, [[0], [0]])], [(2, [[0, 0]])]), side_formula([(5, [])]).terms]
+[[(1, [2]), (2, [1, 1])], None, ([0], 1), [(5, [])]]
+"""
+
+JOINS_AND_FAR = """
+>>> from nestsums.far import far_value
+>>> from nestsums.formulas import word_formula
+>>> from nestsums.joins import begun, cuts, ended, moved, product, repeated, stretched, turned
+>>> pairs, later = word_formula([1, 1]), word_formula([1, 2])
+>>> [product(word_formula([1]), word_formula([2])).terms, repeated(pairs, 3).terms, moved(pairs, 2).terms, stretched(later, -2).terms, turned(later).terms, begun(pairs, [3]).terms, ended(later, [3]).terms, cuts(later)]
+[[(1, [3]), (1, [1, 2]), (1, [2, 1])], [(3, [2]), (9, [1, 1])], [(4, [0, 0]), (2, [0, 1]), (2, [1, 0]), (1, [1, 1])], [(-8, [1, 2])], [(1, [2, 1])], [(3, [1]), (1, [1, 1])], [(9, [1]), (1, [1, 2])], [(1, [], [1, 2]), (1, [1], [2]), (1, [1, 2], [])]]
+>>> [far_value(pairs, [([1], 10 ** 30)]) == 10 ** 30 * (10 ** 30 - 1) // 2, far_value(word_formula([1]), [([([2, 3], 2), ([1], 1)], 3)]), far_value(pairs, []), far_value(pairs, [([3, 1, 2], 1)])]
+[True, 33, 0, 11]
+"""
+
 
 class Examples(unittest.TestCase):
     def assert_holds(self, text):
@@ -22,6 +44,12 @@ class Examples(unittest.TestCase):
 
     def test_formulas_and_forms(self):
         self.assert_holds(FORMULAS_AND_FORMS)
+
+    def test_parting_and_identities(self):
+        self.assert_holds(PARTING_AND_IDENTITIES)
+
+    def test_joins_and_far(self):
+        self.assert_holds(JOINS_AND_FAR)
 
 
 if __name__ == "__main__":

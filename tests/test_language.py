@@ -1,4 +1,4 @@
-"""The rules on files and sizes that a machine can look up: ../shared/LANGUAGE.md L1, L2, L5, L7, L10, L14."""
+"""The rules on files and sizes that a machine can look up: ../shared/LANGUAGE.md L1, L2, L5, L7, L10, L14, L16."""
 
 import ast
 import pathlib
@@ -48,6 +48,18 @@ class Layout(unittest.TestCase):
                     self.assertEqual(node.level, 0, (path, node.lineno))
                     known = node.module.startswith("nestsums.") or node.module in LIBRARY
                     self.assertTrue(known, (path, node.lineno))
+
+    def test_no_two_files_import_from_each_other(self):
+        above = {}
+        for path in FILES:
+            nodes = [node for node in ast.walk(ast.parse(path.read_text())) if isinstance(node, ast.ImportFrom)]
+            above["nestsums." + path.stem] = {node.module for node in nodes if node.module.startswith("nestsums.")}
+        # Take away, again and again, the files that import from none that is left.
+        while above:
+            free = [name for name, needed in above.items() if not needed & set(above)]
+            self.assertTrue(free, above)
+            for name in free:
+                del above[name]
 
     def test_barred_parts_do_not_occur(self):
         for path in FILES:
