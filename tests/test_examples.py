@@ -1,7 +1,10 @@
-"""The examples of the document's interface, word for word."""
+"""The examples of the document's interface, word for word, and those of README.md."""
 
 import doctest
+import pathlib
 import unittest
+
+README = pathlib.Path(__file__).resolve().parent.parent / "README.md"
 
 FORMULAS_AND_FORMS = """
 >>> from nestsums.formulas import Formula, word_formula
@@ -33,6 +36,26 @@ JOINS_AND_FAR = """
 [True, 33, 0, 11]
 """
 
+KEEPERS = """
+>>> from nestsums.formulas import Formula, word_formula
+>>> from nestsums.keepers import Keeper, ShortKeeper, keeper, parting_behind, shares_in, step_rules
+>>> pairs, square = word_formula([1, 1]), Formula([(2, [1, 1]), (1, [2])])
+>>> [[each.terms for each in keeper([square])], shares_in([square, pairs]), step_rules([pairs]), parting_behind(pairs, [1, 3], [3, 1]), parting_behind(pairs, [1, 3], [2, 2]), parting_behind(pairs, [1, 2], [3])]
+[[[(1, [2]), (2, [1, 1])], [(2, [1])], [(1, [])]], [[2, 1, 0, 0], [1, 0, 0, 0]], [[(0, [1, 0, 0]), (1, [0, 1, 0])], [(0, [0, 1, 0]), (1, [0, 0, 1])], [(0, [0, 0, 1])]], None, ([], -1), ([], 2)]
+>>> kept = Keeper([pairs])
+>>> [kept.take(3), kept.take_row([1, 2]), kept.numbers, kept.told, len(kept), kept.undo(), kept.numbers, len(kept), kept == ShortKeeper([pairs], 9)]
+[None, None, [11, 6, 1], [11], 3, None, [0, 3, 1], 1, False]
+"""
+
+ORDERS_AND_FUNDAMENTALS = """
+>>> from nestsums.formulas import Formula, word_formula
+>>> from nestsums.fundamentals import falling, in_fundamental, is_fundamental
+>>> from nestsums.orders import in_power_sums, is_orderless, sees_zeros
+>>> pairs, index, late = word_formula([1, 1]), word_formula([0, 1]), word_formula([2, 1])
+>>> [is_orderless(pairs), is_orderless(index), sees_zeros(pairs), sees_zeros(index), in_power_sums(pairs), in_power_sums(index), is_fundamental([1, 2]), is_fundamental([1, 1]), falling([1, 2, 1]), in_fundamental(late), in_fundamental(pairs)]
+[True, False, False, True, [(-1, 2, [2]), (1, 2, [1, 1])], None, True, False, [[1, 2], [1]], [(-1, 1, [[3]]), (-1, 1, [[1, 2]]), (1, 1, [[1], [2]])], [(-1, 2, [[2]]), (1, 2, [[1], [1]])]]
+"""
+
 
 class Examples(unittest.TestCase):
     def assert_holds(self, text):
@@ -50,6 +73,15 @@ class Examples(unittest.TestCase):
 
     def test_joins_and_far(self):
         self.assert_holds(JOINS_AND_FAR)
+
+    def test_keepers(self):
+        self.assert_holds(KEEPERS)
+
+    def test_orders_and_fundamentals(self):
+        self.assert_holds(ORDERS_AND_FUNDAMENTALS)
+
+    def test_readme(self):
+        self.assert_holds(README.read_text(encoding="utf-8").replace("```", ""))
 
 
 if __name__ == "__main__":

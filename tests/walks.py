@@ -1,6 +1,6 @@
 """What the tests of several files share: words, rows, formulas, and values told by a plain walk."""
 
-from itertools import combinations, product
+from itertools import combinations, permutations, product
 from math import comb
 
 from nestsums.formulas import Formula
@@ -66,6 +66,22 @@ def mixed_formula(chance, most_terms, most_letters, greatest, bound=9):
         (chance.randint(-bound, bound), [chance.randint(0, greatest) for _ in range(chance.randint(0, most_letters))])
         for _ in range(chance.randint(0, most_terms))
     ])
+
+
+def rearranged(letters):
+    """Return all words that are rearrangements of letters, each once."""
+    return [list(word) for word in sorted(set(permutations(letters)))]
+
+
+def orderless_formula(chance, most_terms, most_letters, greatest, bound=9):
+    """Return a formula that has all rearrangements of its words, in a mixed sequence, some of them in two terms."""
+    terms = []
+    for coefficient, word in mixed_formula(chance, most_terms, most_letters, greatest, bound).terms:
+        for each in rearranged(word):
+            part = chance.choice([0, 0, 5])
+            terms.extend([(coefficient - part, each), (part, each)])
+    chance.shuffle(terms)
+    return Formula(terms)
 
 
 def is_blocks(part):
