@@ -47,13 +47,33 @@ KEEPERS = """
 [None, None, [11, 6, 1], [11], 3, None, [0, 3, 1], 1, False]
 """
 
-ORDERS_AND_FUNDAMENTALS = """
+ORDERS_FUNDAMENTALS_RELATIONS = """
 >>> from nestsums.formulas import Formula, word_formula
 >>> from nestsums.fundamentals import falling, in_fundamental, is_fundamental
 >>> from nestsums.orders import in_power_sums, is_orderless, sees_zeros
+>>> from nestsums.relations import mixture, relations
 >>> pairs, index, late = word_formula([1, 1]), word_formula([0, 1]), word_formula([2, 1])
 >>> [is_orderless(pairs), is_orderless(index), sees_zeros(pairs), sees_zeros(index), in_power_sums(pairs), in_power_sums(index), is_fundamental([1, 2]), is_fundamental([1, 1]), falling([1, 2, 1]), in_fundamental(late), in_fundamental(pairs)]
 [True, False, False, True, [(-1, 2, [2]), (1, 2, [1, 1])], None, True, False, [[1, 2], [1]], [(-1, 1, [[3]]), (-1, 1, [[1, 2]]), (1, 1, [[1], [2]])], [(-1, 2, [[2]]), (1, 2, [[1], [1]])]]
+>>> square = Formula([(2, [1, 1]), (1, [2])])
+>>> [relations([square, pairs, word_formula([2])]), mixture(word_formula([2]), [square, pairs]), mixture(pairs, [square, word_formula([2])]), mixture(pairs, [pairs, pairs])]
+[[[1, -2, -1]], [1, -2], None, [0, 1]]
+"""
+
+SHELVES = """
+>>> from nestsums.formulas import Formula, word_formula
+>>> from nestsums.shelves import Shelf, SmallShelf
+>>> shelf = Shelf()
+>>> [shelf.put("b", word_formula([1])), shelf.put("a", Formula([(2, [1]), (-1, [1])])), shelf.titles, shelf.alike_on(word_formula([1])), shelf.drop("b"), len(shelf), shelf.undo(), shelf.formula_on("b").terms, len(shelf.story()), Shelf() == SmallShelf(5)]
+[None, None, ['a', 'b'], ['a', 'b'], None, 1, None, [(1, [1])], 2, False]
+"""
+
+TEXTS_AND_READINGS = """
+>>> from nestsums.formulas import Formula
+>>> from nestsums.readings import read_formula
+>>> from nestsums.texts import show_formula
+>>> [show_formula(Formula([(2, [1, 1]), (1, [2]), (-1, [])])), show_formula(Formula([])), read_formula('1 [2 0]; -2 [1 1]; 1 [0 2]').value_on([3, 1, 2]), read_formula('none').terms]
+['2 [1 1]; 1 [2]; -1 []', 'none', 6, []]
 """
 
 
@@ -77,8 +97,14 @@ class Examples(unittest.TestCase):
     def test_keepers(self):
         self.assert_holds(KEEPERS)
 
-    def test_orders_and_fundamentals(self):
-        self.assert_holds(ORDERS_AND_FUNDAMENTALS)
+    def test_orders_fundamentals_and_relations(self):
+        self.assert_holds(ORDERS_FUNDAMENTALS_RELATIONS)
+
+    def test_shelves(self):
+        self.assert_holds(SHELVES)
+
+    def test_texts_and_readings(self):
+        self.assert_holds(TEXTS_AND_READINGS)
 
     def test_readme(self):
         self.assert_holds(README.read_text(encoding="utf-8").replace("```", ""))
