@@ -44,8 +44,8 @@ class Kin:
         for column in row:
             word = self._words[column]
             if len(word) > 0:
-                shorter = self._columns[word[:-1]]
-                found.setdefault(word[-1], {})[shorter] = row[column]
+                derivative = found.setdefault(word[-1], {})
+                derivative[self._columns[word[:-1]]] = row[column]
         return found
 
     def _rule_of(self, place, step):
